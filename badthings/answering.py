@@ -1,7 +1,9 @@
 """What each call does to a day and what it answers: a list of numbers, a refusal's number alone."""
 
-from badthings.day import STEP, THING, Step, Thing, bad_uses, hanging_steps, has_step, has_thing
-from badthings.playing import Histories, numbers_as_it_was, too_many_histories
+from badthings.cutting import smallest_cut
+from badthings.day import STEP, THING, Step, Thing, bad_uses, has_step, has_thing
+from badthings.hanging import hanging_steps, shortest_rows
+from badthings.playing import FURTHEST, Histories, numbers_as_it_was, too_many_histories
 
 NOT_AS_TOLD = -1
 NO_ROOM = -2
@@ -35,6 +37,14 @@ def threes_of(row):
     return [tuple(row[at:at + 3]) for at in range(0, len(row), 3)]
 
 
+def threes_counted(threes):
+    """How many threes, then they, number by number."""
+    told = [len(threes)]
+    for three in threes:
+        told.extend(list(three))
+    return told
+
+
 def term_is_as_told(day, term):
     if term[0] == THING:
         there = has_thing(day, term[1])
@@ -46,7 +56,7 @@ def term_is_as_told(day, term):
 
 
 def guard_is_as_told(day, guard):
-    return has_step(day, guard[0]) and within(guard[1], 0, 1) and within(guard[2], -1000000000, 1000000000)
+    return has_step(day, guard[0]) and within(guard[1], 0, 1) and within(guard[2], -FURTHEST, FURTHEST)
 
 
 def terms_are_as_told(day, row):
@@ -55,6 +65,14 @@ def terms_are_as_told(day, row):
 
 def guards_are_as_told(day, row):
     return row_is_threes(row) and all([guard_is_as_told(day, guard) for guard in threes_of(row)])
+
+
+def row_is_history(day, row):
+    uses = bad_uses(day)
+    if len(row) != len(uses):
+        return False
+    things = [day.things[use.thing] for use in uses]
+    return all([within(figure, thing.least, thing.greatest) for figure, thing in zip(row, things)])
 
 
 def answer_clear(day, call):
@@ -163,6 +181,83 @@ def answer_witness(day, call):
     return [0]
 
 
+def answer_spread(day, call):
+    k = call.arguments[0]
+    if not has_step(day, k):
+        return [NOT_AS_TOLD]
+    if too_many_histories(day):
+        return [TOO_MANY_HISTORIES]
+    histories = Histories(day)
+    found = [histories.numbers[k]]
+    while histories.go_on():
+        found.append(histories.numbers[k])
+    there = [number for number in found if number is not None]
+    lacking = 1 if len(there) < len(found) else 0
+    return [lacking, min(there), max(there)] if len(there) > 0 else [lacking]
+
+
+def answer_why(day, call):
+    k = call.arguments[0]
+    if not has_step(day, k):
+        return [NOT_AS_TOLD]
+    return counted(shortest_rows(day).get(k, []))
+
+
+def answer_cut(day, call):
+    return counted(smallest_cut(day))
+
+
+def answer_again(day, call):
+    k = call.arguments[0]
+    v = call.arguments[1]
+    if not has_step(day, k) or not within(v, -FURTHEST, FURTHEST):
+        return [NOT_AS_TOLD]
+    day.run_again[k] = v
+    return [0]
+
+
+def answer_as_was(day, call):
+    k = call.arguments[0]
+    if not has_step(day, k):
+        return [NOT_AS_TOLD]
+    if k not in day.run_again:
+        return [NOT_SO]
+    day.run_again.pop(k)
+    return [0]
+
+
+def answer_replay(day, call):
+    row = call.rows[0]
+    if not row_is_history(day, row):
+        return [NOT_AS_TOLD]
+    histories = Histories(day)
+    histories.go_to(row)
+    told = []
+    for k in sorted(day.released):
+        told.extend(number_told(histories.numbers[k]))
+    return told
+
+
+def answer_uses(day, call):
+    uses = bad_uses(day)
+    told = [len(uses)]
+    for use in uses:
+        told.extend([use.step, use.thing])
+    return told
+
+
+def answer_looks(day, call):
+    k = call.arguments[0]
+    if not has_step(day, k):
+        return [NOT_AS_TOLD]
+    step = day.steps[k]
+    return [step.op, step.c] + threes_counted(step.terms) + threes_counted(step.guards)
+
+
+def answer_counts(day, call):
+    return [len(day.things), len(day.steps), len(day.released), len(day.bad_since), len(day.run_again)]
+
+
 # By the calls' places.
 ANSWERERS = (
     answer_clear,
@@ -175,6 +270,15 @@ ANSWERERS = (
     answer_recall,
     answer_quick,
     answer_witness,
+    answer_spread,
+    answer_why,
+    answer_cut,
+    answer_again,
+    answer_as_was,
+    answer_replay,
+    answer_uses,
+    answer_looks,
+    answer_counts,
 )
 
 

@@ -1,4 +1,4 @@
-"""What was told of a day: its things, steps, released steps and bad things."""
+"""What was told of a day: its things, steps, released steps, bad things and steps that were run again."""
 
 THING = 0
 STEP = 1
@@ -30,6 +30,8 @@ class Use:
 
 
 class Day:
+    """bad_since: for each bad thing the step since which it is; run_again: for each such step what came of it."""
+
     def __init__(self):
         self.begin()
 
@@ -38,6 +40,7 @@ class Day:
         self.steps = []
         self.released = {}
         self.bad_since = {}
+        self.run_again = {}
 
 
 def has_thing(day, x):
@@ -57,12 +60,14 @@ def things_in_terms(step):
     return list(found)
 
 
+def use_is_bad(day, k, x):
+    return x in day.bad_since and day.bad_since[x] <= k and k not in day.run_again
+
+
 def bad_uses(day):
     uses = []
     for k, step in enumerate(day.steps):
-        for x in things_in_terms(step):
-            if x in day.bad_since and day.bad_since[x] <= k:
-                uses.append(Use(k, x))
+        uses.extend([Use(k, x) for x in things_in_terms(step) if use_is_bad(day, k, x)])
     return uses
 
 
@@ -70,13 +75,3 @@ def steps_looked_at(step):
     looked = [term[1] for term in step.terms if term[0] == STEP]
     looked.extend([guard[0] for guard in step.guards])
     return looked
-
-
-def hanging_steps(day):
-    """The steps that hang on what is bad, rising, as the keys of a dict."""
-    hanging = {}
-    used = [use.step for use in bad_uses(day)]
-    for k, step in enumerate(day.steps):
-        if k in used or any([j in hanging for j in steps_looked_at(step)]):
-            hanging[k] = True
-    return hanging

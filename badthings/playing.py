@@ -1,6 +1,7 @@
 """Playing a day: as it was, and in every history."""
 
 from badthings.day import THING, bad_uses
+from badthings.hanging import hanging_steps
 
 SUM = 0
 GREATEST = 1
@@ -47,8 +48,11 @@ def number_of_step(step, numbers, doing):
 def numbers_as_it_was(day):
     doing = [thing.number for thing in day.things]
     numbers = []
-    for step in day.steps:
-        numbers.append(number_of_step(step, numbers, doing))
+    for k, step in enumerate(day.steps):
+        if k in day.run_again:
+            numbers.append(day.run_again[k])
+        else:
+            numbers.append(number_of_step(step, numbers, doing))
     return numbers
 
 
@@ -69,12 +73,17 @@ class Histories:
     def __init__(self, day):
         self.day = day
         self.uses = bad_uses(day)
-        self.figures = [0] * len(self.uses)
-        self.numbers = [None] * len(day.steps)
+        # All other steps, those run again among them, have the numbers of the day as it was in every history.
+        self.hanging = list(hanging_steps(day))
+        self.numbers = numbers_as_it_was(day)
         doing = [thing.number for thing in day.things]
         self.doings = [list(doing) for k in range(len(day.steps))]
-        for place, use in enumerate(self.uses):
-            self.put_figure(place, day.things[use.thing].least)
+        self.figures = [0] * len(self.uses)
+        self.go_to([day.things[use.thing].least for use in self.uses])
+
+    def go_to(self, figures):
+        for place, figure in enumerate(figures):
+            self.put_figure(place, figure)
         self.play_from(0)
 
     def put_figure(self, place, figure):
@@ -83,8 +92,9 @@ class Histories:
         self.doings[use.step][use.thing] = figure
 
     def play_from(self, first):
-        for k in range(first, len(self.day.steps)):
-            self.numbers[k] = number_of_step(self.day.steps[k], self.numbers, self.doings[k])
+        for k in self.hanging:
+            if k >= first:
+                self.numbers[k] = number_of_step(self.day.steps[k], self.numbers, self.doings[k])
 
     def go_on(self):
         """Goes to the next history in the order; False if there is none."""

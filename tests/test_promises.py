@@ -1,46 +1,16 @@
-"""Promises 1 and 2, and all of recall, quick and witness, over many small days."""
+"""Promises 1 to 3, and all that is told of a day, over many small days."""
 
 import random
 
-from tests.helper import BILLION, AskingCase, Model, ask, quick, recall, value, witness
-
-
-def some_things(chance, many, least_width):
-    things = []
-    for x in range(many):
-        least = chance.randint(-4, 4)
-        greatest = least + chance.randint(least_width, 3)
-        things.append((least, greatest, chance.randint(least, greatest)))
-    return things
-
-
-def some_step(chance, things, k):
-    terms = []
-    for place in range(chance.randint(0, 3)):
-        times = chance.choice((-2, -1, 0, 1, 1, 2))
-        if k > 0 and chance.random() < 0.5:
-            terms.append((1, chance.randrange(k), times))
-        else:
-            terms.append((0, chance.randrange(things), times))
-    guards = []
-    for place in range(chance.choice((0, 0, 1, 2)) if k > 0 else 0):
-        bound = chance.choice((-BILLION, -3, -1, 0, 1, 2, 4, BILLION))
-        guards.append((chance.randrange(k), chance.randint(0, 1), bound))
-    return (chance.randint(0, 2), chance.randint(-3, 3), terms, guards)
-
-
-def some_day(chance):
-    things = some_things(chance, chance.randint(1, 4), 0)
-    steps = [some_step(chance, len(things), k) for k in range(chance.randint(1, 7))]
-    released = chance.sample(range(len(steps)), chance.randint(0, len(steps)))
-    bads = {x: chance.choice((0, 0, 1, 3)) for x in range(len(things)) if chance.random() < 0.6}
-    return Model(things, steps, released, bads)
+from tests.helper import (
+    BILLION, AskingCase, Model, again, ask, cut, quick, recall, replay, small_days, some_day, some_reruns, some_things,
+    spread, uses, value, why, witness)
 
 
 def some_plain_day(chance):
     """Sums without guards, nothing 0 times, no step looked at twice, bad things with a choice.
 
-    The times are so small that no step comes beyond 1000000000: see the test below.
+    The times and what came of steps run again are so small that no step comes beyond 1000000000: see the test below.
     """
     things = some_things(chance, chance.randint(1, 4), 1)
     steps = []
@@ -56,53 +26,74 @@ def some_plain_day(chance):
         free.append(k)
     released = chance.sample(range(len(steps)), chance.randint(0, len(steps)))
     bads = {x: chance.choice((0, 0, 2)) for x in range(len(things)) if chance.random() < 0.6}
-    return Model(things, steps, released, bads)
+    return Model(things, steps, released, bads, some_reruns(chance, len(steps), 9))
 
 
 class PromiseTest(AskingCase):
-    def small_days(self, make, seed, many):
-        chance = random.Random(seed)
-        days = []
-        while len(days) < many:
-            model = make(chance)
-            if model.many() <= 256:
-                days.append(model)
-        return days
+    def test_every_day_as_the_document_says(self):
+        for model in small_days(some_day, 1, 1500):
+            steps = range(len(model.steps))
+            asked = [recall(), quick(), cut(), uses()]
+            for k in steps:
+                asked += [value(k), witness(k), spread(k), why(k)]
+            calls = model.calls()
+            given = ask(calls + asked)[len(calls):]
+            self.assertEqual(given, [model.answer(call) for call in asked], calls)
 
-    def test_recall_quick_and_witness_as_the_document_says(self):
-        for model in self.small_days(some_day, 1, 1500):
+    def test_promise_1_what_does_not_hang_is_the_same_in_every_history(self):
+        fewer = 0
+        for model in small_days(some_day, 2, 1500):
             calls = model.calls()
             steps = range(len(model.steps))
-            given = ask(calls + [recall(), quick()] + [witness(k) for k in steps] + [value(k) for k in steps])
-            was = [[0] if number is None else [1, number] for number in model.play({})]
-            expected = [model.recall(), model.quick()] + [model.witness(k) for k in steps] + was
-            self.assertEqual(given[len(calls):], expected, calls)
-            if model.bads:
-                self.assertEqual(given[len(calls) - 1], [len(model.uses())], calls)
-
-    def test_promise_1_what_recall_tells_quick_tells_too(self):
-        fewer = 0
-        for model in self.small_days(some_day, 2, 1500):
-            calls = model.calls()
-            given = ask(calls + [recall(), quick()] + [witness(k) for k in range(len(model.steps))])[len(calls):]
-            told, hanging, witnesses = given[0][1:], given[1][1:], given[2:]
-            self.assertLessEqual(set(told), set(hanging), calls)
-            self.assertEqual(told, [k for k in sorted(model.released) if witnesses[k] != [0]], calls)
-            for k in range(len(model.steps)):
+            given = ask(calls + [recall(), quick()] + [witness(k) for k in steps] + [spread(k) for k in steps]
+                        + [value(k) for k in steps])[len(calls):]
+            recalled, hanging = given[0][1:], given[1][1:]
+            witnesses, spreads, values = given[2:2 + len(steps)], given[2 + len(steps):-len(steps)], given[-len(steps):]
+            self.assertLessEqual(set(recalled), set(hanging), calls)
+            self.assertEqual(recalled, [k for k in sorted(model.released) if witnesses[k] != [0]], calls)
+            for k in steps:
                 if not model.hangs(k):
                     self.assertEqual(witnesses[k], [0], calls)
-            fewer += told != hanging
+                    self.assertEqual(spreads[k], [0, values[k][1], values[k][1]] if values[k][0] else [1], calls)
+            fewer += recalled != hanging
         self.assertGreater(fewer, 50)
 
     def test_promise_2_recall_tells_just_what_quick_tells(self):
-        some = 0
-        for model in self.small_days(some_plain_day, 3, 1500):
+        some, with_reruns = 0, 0
+        for model in small_days(some_plain_day, 3, 1500):
             calls = model.calls()
             given = ask(calls + [recall(), quick()])
             self.assertEqual(given[-2], given[-1], calls)
-            self.assertEqual(given[-1], model.quick(), calls)
+            self.assertEqual(given[-1], model.answer(quick()), calls)
             some += given[-1] != [0]
+            with_reruns += given[-1] != [0] and len(model.reruns) > 0
         self.assertGreater(some, 300)
+        self.assertGreater(with_reruns, 50)
+
+    def test_promise_3_with_the_cut_run_again_nothing_released_is_otherwise(self):
+        chance = random.Random(4)
+        some = 0
+        for model in small_days(some_day, 5, 1500):
+            calls = model.calls()
+            steps = ask(calls + [cut()])[-1][1:]
+            for came in (-BILLION, BILLION, None, None):
+                run = [again(k, chance.randint(-9, 9) if came is None else came) for k in steps]
+                given = ask(calls + run + [recall(), quick(), cut()] + [witness(k) for k in model.released])
+                self.assertEqual(given[len(calls):],
+                                 [[0]] * len(run) + [[0], [0], [0]] + [[0]] * len(model.released), calls + run)
+            some += len(steps) > 1
+        self.assertGreater(some, 100)
+
+    def test_promise_3_in_every_history(self):
+        for model in small_days(some_day, 6, 300):
+            calls = model.calls()
+            for k in ask(calls + [cut()])[-1][1:]:
+                model.reruns[k] = 7
+            calls = model.calls()
+            asked = [value(k) for k in sorted(model.released)]
+            was = [number for answer in ask(calls + asked)[len(calls):] for number in answer]
+            replays = [replay(*figures) for figures in model.histories()]
+            self.assertEqual(ask(calls + replays)[len(calls):], [was] * len(replays), calls)
 
     def test_promise_2_needs_each_of_its_conditions(self):
         no_choice = Model([(2, 2, 2)], [(0, 0, [(0, 0, 1)], [])], [0], {0: 0})
