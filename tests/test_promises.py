@@ -111,6 +111,10 @@ class PromiseTest(AskingCase):
             (0, 0, [(1, 2, 100)], [])], [2, 3], {0: 0})
         self.check(far.calls() + [value(2), value(3), recall(), quick()], [1, BILLION], [0], [1, 2], [2, 2, 3])
 
+    def test_beyond_promise_2_a_step_run_again_from_which_others_come_too_far(self):
+        far = Model([(0, 1, 0)], [(0, 0, [], []), (0, 0, [(1, 0, 2), (0, 0, 1)], [])], [1], {0: 0}, {0: BILLION})
+        self.check(far.calls() + [value(1), recall(), quick()], [0], [0], [1, 1])
+
     def test_beyond_promise_2_a_thing_whose_times_come_to_nothing(self):
         level = Model([(0, 1, 0)], [(0, 4, [(0, 0, 2), (0, 0, -2)], [])], [0], {0: 0})
         self.check(level.calls() + [recall(), quick()], [0], [1, 0])
